@@ -1,0 +1,1 @@
+"""Straight walks through square rooms that are glued side to side."""
