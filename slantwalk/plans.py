@@ -3,8 +3,16 @@
 from slantwalk.errors import InvalidPlan, InvalidRoom
 
 
-def _is_order(rooms, size):
+def is_order(rooms, size):
+    """True if a list contains each room of that many exactly once."""
     return sorted(rooms) == list(range(size))
+
+
+def side_by_side(one, two):
+    """A list of sides with a second one behind it, whose rooms get the numbers that follow."""
+    shift = len(one)
+    shifted = [room + shift for room in two]
+    return [*one, *shifted]
 
 
 def _inverse(sides):
@@ -30,9 +38,9 @@ class Plan:
         size = len(right)
         if not 1 <= size <= Plan.MOST_ROOMS:
             raise InvalidPlan("a plan has from 1 to 100 rooms")
-        if not _is_order(right, size):
+        if not is_order(right, size):
             raise InvalidPlan("the first list does not contain each room exactly once")
-        if not _is_order(above, size):
+        if not is_order(above, size):
             raise InvalidPlan("the second list does not contain each room exactly once")
         self._right = tuple(right)
         self._above = tuple(above)
@@ -71,16 +79,15 @@ class Plan:
 
     def renumbered(self, order):
         """The plan in which each room i has the number order[i]."""
-        if not _is_order(order, self.size):
+        if not is_order(order, self.size):
             raise InvalidPlan("the order does not contain each room exactly once")
         return Plan(_with_numbers(order, self._right), _with_numbers(order, self._above))
 
     def __add__(self, other):
         """The plan with the rooms of both, and no side from one part to the other."""
-        shift = self.size
-        right = [room + shift for room in other.right]
-        above = [room + shift for room in other.above]
-        return Plan([*self._right, *right], [*self._above, *above])
+        right = side_by_side(self._right, other._right)
+        above = side_by_side(self._above, other._above)
+        return Plan(right, above)
 
     def __eq__(self, other):
         return isinstance(other, Plan) and self._right == other._right and self._above == other._above

@@ -10,6 +10,14 @@ AND = "and"
 OR = "or"
 
 
+def check_rooms(question, size):
+    """Raise InvalidRoom for the first room of a question that is not one of that many rooms."""
+    for room in question.rooms:
+        # A negative index would be counted from the end of a list.
+        if not 0 <= room < size:
+            raise InvalidRoom(room)
+
+
 def _holds(tree, rings):
     kind = tree[0]
     if kind == NOT:
@@ -107,8 +115,5 @@ class Question:
 
     def renamed(self, order):
         """The question with the number order[i] in the place of each room i."""
-        for room in self.rooms:
-            # A negative index would be counted from the end of the list.
-            if not 0 <= room < len(order):
-                raise InvalidRoom(room)
+        check_rooms(self, len(order))
         return Question(_renamed(self._tree, order))

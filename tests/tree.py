@@ -1,13 +1,17 @@
 """The tree of directions, walked step by step as point 6 describes it."""
 
 
-def rows_of_tree(levels):
+TOP = ((1, 0), (0, 1))
+
+
+def rows_of_tree(levels, start=TOP):
     """For each level from 1 on the rows (direction, (flat neighbor, steep neighbor), kinds of the steps).
 
     The rows of a level stand in ascending order of q / p: everything below the
-    flat child of a direction lies between its flat neighbor and itself.
+    flat child of a direction lies between its flat neighbor and itself. With
+    other neighbors at the start it is the tree below another direction.
     """
-    rows = [((1, 1), ((1, 0), (0, 1)), ())]
+    rows = [made(*start, ())]
     for _ in range(levels):
         yield rows
         below = []
